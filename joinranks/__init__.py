@@ -1,0 +1,1 @@
+"""Joinranks: texts cut into pieces by a told row of joinings."""
