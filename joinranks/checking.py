@@ -31,6 +31,12 @@ def check_row(table, row):
         raise NoPiece(wrong)
 
 
+def check_piece(table, piece):
+    """Refuse what is no piece of the table."""
+    if table.which(piece) is None:
+        raise NoPiece(None)
+
+
 def check_place(place, most):
     """Refuse what is no whole number from 0 to most."""
     if not is_up_to(place, most):

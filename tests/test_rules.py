@@ -16,10 +16,15 @@ BARRED_CALLS = {"chr", "open", "input", "print", "getattr", "setattr", "hasattr"
                 "frozenset", "super", "vars", "hash", "id", "globals", "locals", "float", "round", "bytes"}
 CLASSES = {
     ("tables", "Table"): "signs rows pieces which piece parts rank longest",
+    ("follows", "Follows"): "table alone after ahead may",
 }
 FUNCTIONS = {
     "figures": {"is_whole": 1, "show_number": 1, "read_number": 1},
     "sweeping": {"signs_of": 2, "passed": 3, "swept_from": 3, "swept": 2, "rows_on_the_way": 2},
+    "joinings": {"joinings": 2, "lets_joinings": 3},
+    "meets": {"meets": 3, "stands_alone": 2, "may_follow": 3, "idle_pieces": 1, "right_edge": 2, "left_edge": 2},
+    "judging": {"what_is_wrong": 2},
+    "numbering": {"text_of": 2, "numbers_of": 2, "borders_of": 2, "pieces_of": 2},
 }
 
 

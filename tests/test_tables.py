@@ -196,7 +196,7 @@ class WhatIsTold(unittest.TestCase):
 class NothingKept(unittest.TestCase):
 
     def all_told(self, table):
-        return (table.signs(), table.rows(), table.pieces(), table.longest(), table.rank("a", "b"),
+        return (table.signs(), list(table.rows()), list(table.pieces()), table.longest(), table.rank("a", "b"),
                 table.rank("b", "a"), table.which("ab"), table.which("ba"), table.piece(2), table.parts("ab"))
 
     def test_rows_are_changed_behind_the_making(self):
