@@ -60,6 +60,10 @@ class Follows:
         """Tell the pieces that stand alone, in the order of their numbers."""
         return list(self.alone_pieces)
 
+    def has_alone(self, thing):
+        """Tell whether anything is a piece that stands alone."""
+        return isinstance(thing, str) and thing in self.alone_pieces
+
     def after(self, piece):
         """Tell the pieces that may follow a piece, in the order of their numbers."""
         check_piece(self.held_table, piece)

@@ -44,6 +44,8 @@ BY_HAND = [
     ("ab", [("b", "b"), ("a", "bb"), ("bb", "a"), ("a", "a"), ("bb", "bb"), ("abb", "abb")]),
     ("ab", [("a", "a"), ("b", "b"), ("aa", "b"), ("a", "bb"), ("aab", "b"), ("bb", "aa"), ("b", "aa")]),
     ("ab", [("a", "b"), ("b", "ab"), ("b", "b"), ("bb", "ab"), ("bab", "b"), ("ab", "bab"), ("b", "a")]),
+    ("abc", [("a", "b"), ("a", "c")] + [("a", "a" * many + sign) for many in range(1, 12) for sign in "bc"]),
+    ("fedcba", [(left, right) for left in "acebdf" for right in "abcd"]),
 ]
 
 
@@ -102,6 +104,59 @@ def done_one_by_one(rows, text):
         rank, at = min(found)
         done.append((rank, sum(len(piece) for piece in row[:at + 1])))
         row[at:at + 2] = [row[at] + row[at + 1]]
+
+
+def plain_cut(rows, text):
+    """The cutting of a text by the passes of all ranks in turn, each piece laid behind the last one."""
+    row = list(text)
+    for left, right in rows:
+        behind = []
+        for piece in row:
+            if behind and behind[-1] == left and piece == right:
+                behind[-1] = left + right
+            else:
+                behind.append(piece)
+        row = behind
+    return row
+
+
+def ends_of(row):
+    """For each piece of a row the number of signs to its end."""
+    return list(itertools.accumulate(len(piece) for piece in row))
+
+
+def drawn_text(chance, signs, many):
+    """A text of so many signs, drawn by chance."""
+    return "".join(chance.choice(signs) for _ in range(many))
+
+
+def no_texts():
+    """What is no text at all."""
+    return [thing for thing in strange_things() if thing.__class__ != str]
+
+
+def no_places(most):
+    """What is no number from 0 to most."""
+    return [thing for thing in strange_things() if thing.__class__ != int] + [-1, -2, most + 1, most + 2, 10 ** 59]
+
+
+def no_manys():
+    """What is no whole number from 1 on."""
+    return [thing for thing in strange_things() if thing.__class__ != int] + [0, -1, -10 ** 59]
+
+
+# Of the table that abc_table makes: what is no cutting of it, with kind and place of what is wrong.
+ABC_WRONG = [
+    (("form", None), "ab"), (("form", None), ("a",)), (("form", None), None), (("form", None), {"a": 1}),
+    (("piece", 0), [None]), (("piece", 1), ["a", "cc", "a"]), (("piece", 2), ["abc", "abc", True]),
+    (("piece", 0), [["a"]]), (("piece", 0), [EqualToAll()]), (("alone", 0), ["abc"]), (("alone", 2), ["a", "b", "abc"]),
+    (("border", 0), ["a", "b"]), (("border", 1), ["a", "a", "bc"]), (("border", 2), ["ab", "c", "b", "c", "a", "b"]),
+]
+
+
+def abc_table():
+    """A table whose piece abc is idle; b and bc may not follow a, nor c follow b."""
+    return Table("abc", [("a", "b"), ("b", "c"), ("a", "bc")])
 
 
 def refused(case, error, values, call, *told):

@@ -17,6 +17,7 @@ BARRED_CALLS = {"chr", "open", "input", "print", "getattr", "setattr", "hasattr"
 CLASSES = {
     ("tables", "Table"): "signs rows pieces which piece parts rank longest",
     ("follows", "Follows"): "table alone after ahead may",
+    ("streams", "Stream"): "put told rest text doubt twin",
 }
 FUNCTIONS = {
     "figures": {"is_whole": 1, "show_number": 1, "read_number": 1},
@@ -25,6 +26,9 @@ FUNCTIONS = {
     "meets": {"meets": 3, "stands_alone": 2, "may_follow": 3, "idle_pieces": 1, "right_edge": 2, "left_edge": 2},
     "judging": {"what_is_wrong": 2},
     "numbering": {"text_of": 2, "numbers_of": 2, "borders_of": 2, "pieces_of": 2},
+    "quick": {"lasts": 2, "firsts": 2, "read_on": 2, "read_back": 2, "is_border": 3},
+    "gluing": {"glued": 3, "parted": 3},
+    "reaches": {"reach": 1},
 }
 
 
@@ -85,6 +89,16 @@ class Rules(unittest.TestCase):
         for name, node in nodes((ast.Name, ast.arg)):
             bound = node.arg if isinstance(node, ast.arg) else node.id if isinstance(node.ctx, ast.Store) else "ok"
             self.assertFalse(hasattr(builtins, bound) or bound.startswith("_"), f"{name}: {bound}")
+
+    def test_imported_names(self):
+        for name, source in sources().items():
+            tree = ast.parse(source)
+            imported = {part.name for node in ast.walk(tree) if isinstance(node, ast.ImportFrom) for part in node.names}
+            names = [node for node in ast.walk(tree) if isinstance(node, ast.Name)]
+            bound = {node.arg for node in ast.walk(tree) if isinstance(node, ast.arg)}
+            bound |= {node.id for node in names if isinstance(node.ctx, ast.Store)}
+            self.assertEqual(imported & bound, set(), name)
+            self.assertEqual(imported - {node.id for node in names}, set(), name)
 
     def test_no_name_is_method_and_attribute(self):
         methods = {part.name for _, node in nodes(ast.ClassDef) for part in node.body
