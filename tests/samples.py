@@ -130,6 +130,15 @@ def drawn_text(chance, signs, many):
     return "".join(chance.choice(signs) for _ in range(many))
 
 
+def drawn_change(chance, table, text):
+    """A change of a text, drawn by chance: place, gone and put."""
+    place = chance.choice([0, len(text), chance.randrange(len(text) + 1), chance.randrange(len(text) + 1)])
+    gone = min(chance.choice([0, 0, 1, 2, 5, 400]), len(text) - place)
+    put = chance.choice(["", chance.choice(table.signs()), chance.choice(table.pieces()),
+                         drawn_text(chance, table.signs(), 6), text[place:place + gone]])
+    return place, gone, put
+
+
 def no_texts():
     """What is no text at all."""
     return [thing for thing in strange_things() if thing.__class__ != str]

@@ -18,6 +18,8 @@ CLASSES = {
     ("tables", "Table"): "signs rows pieces which piece parts rank longest",
     ("follows", "Follows"): "table alone after ahead may",
     ("streams", "Stream"): "put told rest text doubt twin",
+    ("kept", "Kept"): "change undo table text cutting piece_at twin under",
+    ("learner", "Learner"): "put take step step_back counted beside table many_pieces",
 }
 FUNCTIONS = {
     "figures": {"is_whole": 1, "show_number": 1, "read_number": 1},
@@ -29,6 +31,9 @@ FUNCTIONS = {
     "quick": {"lasts": 2, "firsts": 2, "read_on": 2, "read_back": 2, "is_border": 3},
     "gluing": {"glued": 3, "parted": 3},
     "reaches": {"reach": 1},
+    "patches": {"recut": 5, "patched": 2},
+    "counting": {"beside": 2, "best_pair": 3},
+    "learning": {"learnt": 4},
 }
 
 
