@@ -1,6 +1,6 @@
 """What is handed in beside a table, looked at ahead of its use."""
 
-from joinranks.errors import NoPiece, NoPlace, NoSign
+from joinranks.errors import NoLead, NoPiece, NoPlace, NoSign
 from joinranks.figures import is_up_to
 
 
@@ -41,3 +41,9 @@ def check_place(place, most):
     """Refuse what is no whole number from 0 to most."""
     if not is_up_to(place, most):
         raise NoPlace("no such place")
+
+
+def check_same_signs(one, other):
+    """Refuse two tables that do not have the same signs, in whatever order."""
+    if sorted(one.signs()) != sorted(other.signs()):
+        raise NoLead("the tables have other signs")

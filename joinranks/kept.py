@@ -1,7 +1,7 @@
 """Kept texts: changed in their midst, and the changes undone."""
 
-from joinranks.checking import check_place
-from joinranks.errors import NoDeed, NoLead
+from joinranks.checking import check_place, check_same_signs
+from joinranks.errors import NoDeed
 from joinranks.follows import Follows
 from joinranks.patches import changed_text, check_change, patch_of, patched
 from joinranks.quick import read_on
@@ -72,6 +72,5 @@ class Kept:
 
     def under(self, table):
         """Tell the same text cut by another table with the same signs, with as much to undo."""
-        if sorted(table.signs()) != sorted(self.table().signs()):
-            raise NoLead("the tables have other signs")
+        check_same_signs(self.table(), table)
         return self.cut_by(table)

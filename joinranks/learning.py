@@ -2,7 +2,7 @@
 
 from joinranks.counting import best_of, count_pieces, cut_counted
 from joinranks.sweeping import pass_along
-from joinranks.tables import Table
+from joinranks.tableworks import with_row
 
 
 def joined_once(table, cuts, least):
@@ -14,8 +14,7 @@ def joined_once(table, cuts, least):
     right = table.piece(best[1])
     # The new row is the last one, so the new cuttings are the old ones, passed by it alone.
     new_cuts = [(pass_along(row, left, right)[0], many) for row, many in cuts]
-    new_table = Table(table.signs(), table.rows() + [(left, right)])
-    return new_table, new_cuts, (*best, count_pieces(cuts) - count_pieces(new_cuts))
+    return with_row(table, (left, right)), new_cuts, (*best, count_pieces(cuts) - count_pieces(new_cuts))
 
 
 def learnt(table, counted, most, least):

@@ -20,6 +20,7 @@ CLASSES = {
     ("streams", "Stream"): "put told rest text doubt twin",
     ("kept", "Kept"): "change undo table text cutting piece_at twin under",
     ("learner", "Learner"): "put take step step_back counted beside table many_pieces",
+    ("grammars", "Grammar"): "many ways ends leads tells",
 }
 FUNCTIONS = {
     "figures": {"is_whole": 1, "show_number": 1, "read_number": 1},
@@ -34,6 +35,9 @@ FUNCTIONS = {
     "patches": {"recut": 5, "patched": 2},
     "counting": {"beside": 2, "best_pair": 3},
     "learning": {"learnt": 4},
+    "tableworks": {"beginning": 2, "renamed": 2, "led": 2, "trimmed": 1},
+    "alike": {"unlike_text": 2},
+    "walking": {"next_pieces": 3, "may_end": 3, "way_on": 3},
 }
 
 
