@@ -38,6 +38,10 @@ class Kept:
         place, gone, put = self.ways_back.pop()
         return self.do_change(place, gone, put)
 
+    def follows(self):
+        """Tell the follows of the table."""
+        return self.held_follows
+
     def table(self):
         """Tell the table."""
         return self.held_follows.table()

@@ -139,6 +139,17 @@ def drawn_change(chance, table, text):
     return place, gone, put
 
 
+def plain_patch(old, new, place, gone):
+    """The patch between two cuttings, word for word as the point tells it."""
+    first = max(many for many in range(min(len(old), len(new)) + 1)
+                if old[:many] == new[:many] and len("".join(old[:many])) <= place)
+    old, new, place = old[first:], new[first:], place - len("".join(old[:first]))
+    last = max(many for many in range(min(len(old), len(new)) + 1)
+               if old[len(old) - many:] == new[len(new) - many:]
+               and len("".join(old[:len(old) - many])) >= (place + gone if many else 0))
+    return first, old[:len(old) - last], new[:len(new) - last]
+
+
 def no_texts():
     """What is no text at all."""
     return [thing for thing in strange_things() if thing.__class__ != str]

@@ -9,18 +9,7 @@ from joinranks.patches import patched, recut
 from joinranks.reaches import reach
 from joinranks.tables import Table
 from tests.samples import (ABC_WRONG, abc_table, drawn_change, drawn_text, ends_of, no_places, no_texts, plain_cut,
-                           refused, strange_things, tables)
-
-
-def plain_patch(old, new, place, gone):
-    """The patch between two cuttings, word for word as the point tells it."""
-    first = max(many for many in range(min(len(old), len(new)) + 1)
-                if old[:many] == new[:many] and len("".join(old[:many])) <= place)
-    old, new, place = old[first:], new[first:], place - len("".join(old[:first]))
-    last = max(many for many in range(min(len(old), len(new)) + 1)
-               if old[len(old) - many:] == new[len(new) - many:]
-               and len("".join(old[:len(old) - many])) >= (place + gone if many else 0))
-    return first, old[:len(old) - last], new[:len(new) - last]
+                           plain_patch, refused, strange_things, tables)
 
 
 class ByHand(unittest.TestCase):

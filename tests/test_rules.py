@@ -21,6 +21,7 @@ CLASSES = {
     ("kept", "Kept"): "change undo table text cutting piece_at twin under",
     ("learner", "Learner"): "put take step step_back counted beside table many_pieces",
     ("grammars", "Grammar"): "many ways ends leads tells",
+    ("desk", "Desk"): "say",
 }
 FUNCTIONS = {
     "figures": {"is_whole": 1, "show_number": 1, "read_number": 1},
@@ -38,6 +39,10 @@ FUNCTIONS = {
     "tableworks": {"beginning": 2, "renamed": 2, "led": 2, "trimmed": 1},
     "alike": {"unlike_text": 2},
     "walking": {"next_pieces": 3, "may_end": 3, "way_on": 3},
+    "numbered": {"how_many": 3, "cutting_of": 4, "number_of": 3},
+    "splitting": {"is_splitting": 3, "lets_heights": 3},
+    "fewest": {"heights": 2, "fewest": 2, "how_many_fewest": 2},
+    "texts": {"show_table": 1, "read_table": 1, "show_numbers": 1, "read_numbers": 1},
 }
 
 
